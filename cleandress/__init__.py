@@ -1,0 +1,1 @@
+"""Cleandress: files dressed on the way out, cleaned on the way in."""

@@ -1,0 +1,1 @@
+"""What all parts of the package stand on: signs, texts and numbers."""

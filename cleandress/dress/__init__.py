@@ -1,0 +1,1 @@
+"""What is put into a text on its way out."""
