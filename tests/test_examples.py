@@ -5,7 +5,10 @@ import pathlib
 import unittest
 
 from cleandress.base.signs import are_signs, texts_upto
+from cleandress.clean.cleaners import Cleaner, dropping, only_with, plain_cleaner, trimming
+from cleandress.dress.dresses import Dress, dressed_text, plain_dress
 from cleandress.dress.holes import Hole, first_beyond
+from tests.examples import KEEP, PAD, PLAIN, STAMP, TEXT, TRIM, UNSTAMP
 
 STAGE_1 = '''
 >>> [are_signs(("#", "a")), are_signs("ab"), list(texts_upto(("a", "b"), 1))]
@@ -20,6 +23,21 @@ STAGE_2 = '''
 ['0a', True, 'hole of 2 runs', (('a',), 0, None)]
 '''
 
+STAGE_3 = '''
+>>> one = STAMP.dressed("a$", ("ba",))
+>>> [one, dressed_text(one), STAMP.is_dressing("a$", one), STAMP.makes("a$", "a$:"), STAMP.plain("a$b")]
+[((), (('own', 'a'),), (('own', '$'), ('filled', 'ba'), ('fixed', ':')), ()), 'a$ba:', True, True, (0, 2)]
+>>> [[dressed_text(row) for row in PAD.dressings("a", many=2)], STAMP.holes_of("$$")]
+[['a', 'a_', 'a__'], ('who', 'who')]
+'''
+
+STAGE_4 = '''
+>>> [UNSTAMP("a$ba:b"), TRIM("_a__"), TRIM.views("a_"), TRIM.walk("a_"), only_with("#")("a")]
+['a$b', '_a', (1, 0, 0), ((0, ''), (0, 'a'), (0, 'a')), None]
+>>> [trimming(("_",))("a_b_"), dropping(("_",))("a_b_"), KEEP.views_that_come(), str(TRIM)]
+['a_b', 'ab', (0,), 'cleaner of 1 states, 2 views']
+'''
+
 
 class Examples(unittest.TestCase):
     def follow(self, text, names):
@@ -29,15 +47,33 @@ class Examples(unittest.TestCase):
         self.assertEqual(result.failed, 0, "".join(told))
         self.assertEqual(result.attempted, text.count(">>>"))
 
+    def follow_stage(self, text):
+        names = {name: value for name, value in globals().items() if not name.startswith("_")}
+        self.follow(text, names)
+
     def test_stage_1(self):
         self.follow(STAGE_1, {"are_signs": are_signs, "texts_upto": texts_upto})
 
     def test_stage_2(self):
         self.follow(STAGE_2, {"Hole": Hole, "first_beyond": first_beyond})
 
+    def test_values(self):
+        names = {function.__name__: function for function in (Hole, Dress, Cleaner, plain_dress, plain_cleaner)}
+        self.follow(TEXT, names)
+        values = {"PLAIN": PLAIN, "KEEP": KEEP, "STAMP": STAMP, "UNSTAMP": UNSTAMP, "PAD": PAD, "TRIM": TRIM}
+        parser = doctest.DocTestParser()
+        told = dict(names)
+        for example in parser.get_examples(TEXT):
+            exec(example.source, told)
+        for name, value in values.items():
+            self.assertEqual(told[name], value)
+
+    def test_stages_3_and_4(self):
+        for text in (STAGE_3, STAGE_4):
+            self.follow_stage(text)
+
     def test_readme(self):
         readme = pathlib.Path(__file__).resolve().parent.parent / "README.md"
         blocks = [block for block in readme.read_text("utf-8").split("```\n") if ">>>" in block]
-        self.assertTrue(blocks)
-        for block in blocks:
-            self.follow(block, {})
+        self.assertGreater(len(blocks), 1)
+        self.follow("".join(blocks), {})

@@ -1,6 +1,8 @@
 """Values that several tests pass: of each kind that the document lists for wrong arguments."""
 
 from cleandress.base.signs import SIGNS
+from cleandress.clean.cleaners import plain_cleaner
+from cleandress.dress.dresses import plain_dress
 from cleandress.dress.holes import Hole
 from cleandress.errors import InvalidText, TooMany
 
@@ -32,7 +34,7 @@ def no_integers():
     tuples = [(), ("a",), ("a", "b"), ("b", "a"), ("a", "a"), (0,), (None,), (("a",), 0, None)]
     lists = [[], ["a"], [0], [("a",), 0, None]]
     dicts = [{}, {"a": 0}, {0: "a"}, {("a",): None}]
-    objects = [Hole((("a",), 0, None)), InvalidText("a"), TooMany(4000)]
+    objects = [Hole((("a",), 0, None)), InvalidText("a"), TooMany(4000), plain_dress(), plain_cleaner()]
     return [True, False, None] + strings + tuples + lists + dicts + objects + deep_values()
 
 
@@ -54,3 +56,16 @@ def no_sign_tuples():
 
 def no_holes():
     return [value for value in every_value() if not isinstance(value, Hole)]
+
+
+def no_texts():
+    """Everything that is no text that can be passed alone."""
+    return [value for value in every_value() if value not in ("", "a", "#", "ab", "1")] + ["a" * 2001]
+
+
+def no_names():
+    return [value for value in every_value() if value not in ("a", "z", "ab")] + ["A", "a1", "abcdefghi", "a\n"]
+
+
+def short(value):
+    return repr(value)[:80]

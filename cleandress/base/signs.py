@@ -19,6 +19,12 @@ def is_text(value):
     return isinstance(value, str) and value.strip(SIGNS) == ""
 
 
+def check_passed(value):
+    """Raises an error if the value is no text that can be passed alone."""
+    if not is_text(value) or len(value) > MAX_PASSED:
+        raise InvalidText("a text of at most 2000 signs is needed")
+
+
 def are_signs(value):
     """Whether the value is an ascending tuple of signs, perhaps the empty one."""
     if not isinstance(value, tuple) or not all([is_sign(sign) for sign in value]):

@@ -2,7 +2,7 @@
 
 from cleandress.base.integers import is_number
 from cleandress.base.signs import are_signs, is_text
-from cleandress.dress.readers import count_of, fillings_within, first_read_beyond, reader_of, reads
+from cleandress.dress.readers import count_of, fillings_within, first_read_beyond, order_of, reader_of, reads
 from cleandress.errors import InvalidHole, InvalidNumber, InvalidOperation, InvalidText
 
 MAX_RUNS = 4
@@ -93,6 +93,11 @@ def runs_without(runs, signs):
     if not left:
         raise InvalidOperation("no run is left")
     return left
+
+
+def order_within(hole, many):
+    """The order of the fillings of at most so many signs (see readers)."""
+    return order_of(hole._reader, many)
 
 
 def first_beyond(hole, other):

@@ -118,6 +118,48 @@ def fillings_within(reader, many):
                     waiting.append((text + sign, reached))
 
 
+def order_of(reader, many):
+    """What is needed to go through all fillings of at most so many signs one by one."""
+    return reader, ends_within(reader, many)
+
+
+def filling_from(order, length):
+    """The first filling with at least so many signs, None if there is none in this order."""
+    reader, ends = order
+    while length < len(ends):
+        if ends[length][0]:
+            return least_text(reader, ends, 0, length)
+        length = length + 1
+    return None
+
+
+def filling_behind(order, filling):
+    """The filling behind one in an order, None behind the last one."""
+    reader, ends = order
+    _, moves = reader
+    states = [0]
+    for sign in filling:
+        states.append(moves[states[-1]][sign])
+    for at in reversed(range(len(filling))):
+        left = len(filling) - at - 1
+        for sign, reached in moves[states[at]].items():
+            if sign > filling[at] and ends[left][reached]:
+                return filling[:at] + sign + least_text(reader, ends, reached, left)
+    return filling_from(order, len(filling) + 1)
+
+
+def least_text(reader, ends, state, length):
+    """The least text with so many signs, of which there is one, that makes a filling from a state on."""
+    _, moves = reader
+    text = ""
+    for left in reversed(range(length)):
+        # The signs of a move ascend.
+        possible = [(sign, reached) for sign, reached in moves[state].items() if ends[left][reached]]
+        sign, state = possible[0]
+        text = text + sign
+    return text
+
+
 def ends_within(reader, many):
     """A list for each number of signs up to many: for each state, whether just so many make a filling."""
     wholes, moves = reader

@@ -1,0 +1,1 @@
+"""What is taken off a text on its way in."""

@@ -1,0 +1,1 @@
+"""Roads: what comes along a row of cleaners and dresses."""
