@@ -8,6 +8,11 @@ from cleandress.base.signs import are_signs, texts_upto
 from cleandress.clean.cleaners import Cleaner, dropping, only_with, plain_cleaner, trimming
 from cleandress.dress.dresses import Dress, dressed_text, plain_dress
 from cleandress.dress.holes import Hole, first_beyond
+from cleandress.judge.edits import edited_text, edits_pass, greatest_typed, is_edit, is_edits_paper, wanted_text
+from cleandress.judge.silent import is_silent, silent_paper
+from cleandress.judge.still import is_still, is_still_paper, settles, still_paper
+from cleandress.walk.roads import along
+from cleandress.walk.standings import first_standings, lag_behind, steps_at
 from tests.examples import KEEP, PAD, PLAIN, STAMP, TEXT, TRIM, UNSTAMP
 
 STAGE_1 = '''
@@ -36,6 +41,36 @@ STAGE_4 = '''
 ['a$b', '_a', (1, 0, 0), ((0, ''), (0, 'a'), (0, 'a')), None]
 >>> [trimming(("_",))("a_b_"), dropping(("_",))("a_b_"), KEEP.views_that_come(), str(TRIM)]
 ['a_b', 'ab', (0,), 'cleaner of 1 states, 2 views']
+'''
+
+STAGE_5 = '''
+>>> road = (KEEP, STAMP, UNSTAMP)
+>>> [along(road, "$", (STAMP.dressed("$", ("a",)),)), first_standings(road)]
+[('$', '$', '$a:', '$'), (((0, 0), (0, ''), (0, 0, ())),)]
+>>> steps_at(road, (("end", 0), (0, "$"), (0, 0, ())))
+(('$', '', (('end', 0), (0, ''), (0, 0, (('own', '$'), ('hole', 'who', 0, 0), ('fixed', ':'))))),)
+>>> [len(first_standings((TRIM, PAD, TRIM))), lag_behind(("a", ""), "b", "ab"), lag_behind(("a", ""), "", "b")]
+[4, ('', ''), None]
+'''
+
+STAGE_6 = '''
+>>> [is_still((KEEP, STAMP, UNSTAMP)), is_still((TRIM, PAD, TRIM)), is_still((KEEP, PAD, TRIM)), settles(PAD, TRIM)]
+[True, True, False, True]
+>>> [still_paper((KEEP, PAD, TRIM))[:2], is_still_paper((KEEP, PAD, TRIM), ("stirred", "a_", (PAD.dressed("a_", ("_",)),)))]
+[('stirred', '_'), True]
+'''
+
+STAGE_7 = '''
+>>> [is_silent((KEEP, PAD, TRIM)), is_silent((KEEP, PAD, KEEP)), silent_paper((KEEP, PAD, KEEP))[:2]]
+[True, False, ('tells', '')]
+'''
+
+STAGE_8 = '''
+>>> road, edit = (KEEP, STAMP, UNSTAMP), ((), (("typed", "$"), ("own", "a")), ())
+>>> [edits_pass(road, (":", "a")), edits_pass(road, ("$",)), greatest_typed(road, ("$", ":", "a"))]
+[True, False, ((':', 'a'),)]
+>>> [is_edits_paper(road, ("$",), ("fail", "a", edit)), edited_text(edit), wanted_text("a", edit), is_edit(STAMP, "a", ("b",), edit)]
+[True, '$a', '$a', False]
 '''
 
 
@@ -68,12 +103,12 @@ class Examples(unittest.TestCase):
         for name, value in values.items():
             self.assertEqual(told[name], value)
 
-    def test_stages_3_and_4(self):
-        for text in (STAGE_3, STAGE_4):
+    def test_stages_3_to_8(self):
+        for text in (STAGE_3, STAGE_4, STAGE_5, STAGE_6, STAGE_7, STAGE_8):
             self.follow_stage(text)
 
     def test_readme(self):
         readme = pathlib.Path(__file__).resolve().parent.parent / "README.md"
         blocks = [block for block in readme.read_text("utf-8").split("```\n") if ">>>" in block]
-        self.assertGreater(len(blocks), 1)
+        self.assertGreater(len(blocks), 2)
         self.follow("".join(blocks), {})

@@ -1,0 +1,1 @@
+"""What holds for all texts and all fillings, and papers that show it."""
