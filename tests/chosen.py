@@ -83,3 +83,23 @@ def chosen_road(chance, parts=3):
 def chosen_roads(seed, many, parts=3):
     chance = random.Random(seed)
     return [chosen_road(chance, parts) for _ in range(many)]
+
+
+def seeing_cleaner(chance):
+    """A cleaner with a look of three states, which all come, that drops and changes little."""
+    look = chosen_look(chance, 3)
+    row = {(sign, view): ("", 0) for sign in FEW for view in range(3) if chance.random() < 0.4}
+    firsts = tuple(None if chance.random() < 0.2 else 0 for _ in range(3))
+    return Cleaner(((row, 0, ""),), look=look, firsts=firsts)
+
+
+def seeing_roads(seed, many):
+    """Roads of three parts whose last cleaner has a look of three states."""
+    chance = random.Random(seed)
+    drops = [dropping(FEW), dropping(("_",)), trimming(("_",)), plain_cleaner(), only_with("a")]
+    roads = []
+    while len(roads) < many:
+        last = seeing_cleaner(chance)
+        if last.views_that_come() == (0, 1, 2):
+            roads.append((chance.choice(drops), chosen_dress(chance, states=1), last))
+    return roads

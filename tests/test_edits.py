@@ -16,7 +16,7 @@ from cleandress.walk.courses import edit_course, starts_of
 from cleandress.walk.forms import has_form
 from cleandress.walk.moves import moves_at
 from cleandress.walk.standings import first_standings, standings
-from tests.chosen import FEW, chosen_dress, chosen_roads
+from tests.chosen import FEW, chosen_dress, chosen_roads, seeing_roads
 from tests.double import edit_steps, is_edit_standing
 from tests.examples import KEEP, PAD, PLAIN, STAMP, TRIM, UNSTAMP
 from tests.judges import EVEN, is_least, least_wrong, right_rows, told_useful_of
@@ -207,6 +207,20 @@ class Passing(unittest.TestCase):
                 self.assertTrue(is_least(cost, told), (cost, told))
                 known += told[0] == cost
         self.assertGreater(known, 100)
+
+    def test_looks_of_three_states(self):
+        marks = []
+        for road in seeing_roads(98, 60):
+            for typed in ((), ("b",), ("c", "d")):
+                paper = edits_paper(road, typed)
+                marks.append(paper[0])
+                self.assertIs(is_edits_paper(road, typed, paper), True)
+                wrong = [row[3] for row in short_edits(road, FEW, 1, 1, typed) if row[4] != row[5]]
+                cost = None if paper[0] == "pass" else cost_of(road, paper)
+                self.assertTrue(is_least(cost, least_failing_steps(road, typed)))
+                if wrong:
+                    self.assertLessEqual(cost, min(wrong))
+        self.assertGreater(min(marks.count("pass"), marks.count("fail")), 10)
 
     def test_typed_signs_count(self):
         # A third typed "b" is lost: three signs are typed beside one that is left out or stays.

@@ -5,14 +5,14 @@ import unittest
 from cleandress.clean.cleaners import Cleaner, dropping, only_with
 from cleandress.dress.dresses import Dress, dressed_text
 from cleandress.dress.holes import Hole
-from cleandress.errors import InvalidRoad
+from cleandress.errors import InvalidRoad, TooMany
 from cleandress.judge import silent as module
 from cleandress.judge.silent import is_silent, is_silent_paper, silent_paper
 from cleandress.judge.still import is_still
 from cleandress.walk.courses import double_course, starts_of
 from cleandress.walk.forms import has_form
 from cleandress.walk.moves import moves_at
-from tests.chosen import FEW, chosen_roads
+from tests.chosen import FEW, chosen_roads, seeing_roads
 from tests.double import double_starts, double_steps, is_double
 from tests.examples import KEEP, PAD, PLAIN, STAMP, TRIM, UNSTAMP
 from tests.judges import EVEN, is_least, least_wrong, refused, right_rows, told_useful_of
@@ -81,6 +81,22 @@ class Silent(unittest.TestCase):
             self.assertTrue(is_least(cost, told), (cost, told))
             known += told[0] == cost
         self.assertGreater(known, 30)
+
+    def test_looks_of_three_states(self):
+        marks = []
+        for road in seeing_roads(86, 60):
+            try:
+                paper = silent_paper(road)
+            except TooMany:
+                continue
+            marks.append(paper[0])
+            self.assertIs(is_silent_paper(road, paper), True)
+            least = least_telling(road, FEW + ("c",), 2, 1)
+            cost = None if paper[0] == "silent" else len(road[0](paper[1]))
+            self.assertTrue(is_least(cost, least_telling_steps(road)))
+            if least is not None:
+                self.assertLessEqual(cost, least)
+        self.assertGreater(min(marks.count("silent"), marks.count("tells")), 8)
 
     def test_long_ways(self):
         # What is filled in behind the third "a" alone can be seen.

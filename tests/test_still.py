@@ -9,7 +9,7 @@ from cleandress.judge import still as module
 from cleandress.judge.still import is_still, is_still_paper, settles, still_paper
 from cleandress.walk.roads import along, comes_back
 from cleandress.walk.standings import standings, steps_at, useful_standings
-from tests.chosen import FEW, chosen_roads
+from tests.chosen import FEW, chosen_roads, seeing_roads
 from tests.examples import KEEP, PAD, PLAIN, STAMP, TRIM, UNSTAMP
 from tests.judges import is_least, least_stirring_steps, right_still_rows
 from tests.test_roads import LONG, NEVER, no_roads
@@ -93,6 +93,19 @@ class Still(unittest.TestCase):
                 self.assertTrue(is_least(cost, told), (cost, told))
                 known += told[0] == cost
         self.assertGreater(known, 100)
+
+    def test_looks_of_three_states(self):
+        seen = {"still": 0, "stirred": 0}
+        for road in seeing_roads(76, 150):
+            paper = still_paper(road)
+            seen[paper[0]] += 1
+            self.assertIs(is_still_paper(road, paper), True)
+            least = least_stirring(road, FEW + ("c",), 2, 1)
+            cost = None if paper[0] == "still" else len(along(road, paper[1], paper[2])[-3])
+            self.assertTrue(is_least(cost, least_stirring_steps(road)))
+            if least is not None:
+                self.assertLessEqual(cost, least)
+        self.assertGreater(min(seen.values()), 8)
 
     def test_long_ways_to_the_least_walk(self):
         # Only behind four signs does the cleaner forget one; each shorter text comes back.
