@@ -1,7 +1,7 @@
-"""Roads with just so many standings, and cleaners with more states than can be passed."""
+"""Roads with just so many standings."""
 
 from cleandress.base.signs import SIGNS
-from cleandress.clean.cleaners import Cleaner, dropping, in_order, only_with, origins_of
+from cleandress.clean.cleaners import Cleaner, dropping, only_with
 from cleandress.dress.dresses import Dress
 from cleandress.dress.holes import Hole
 from tests.examples import KEEP
@@ -52,14 +52,3 @@ DOUBLE_4001 = still_road(3, 12, 3, 1, 4, 5, 2, 1, 10)
 # With the one typed sign "a".
 EDITS_4000 = still_road(3, 10, 2, 3, 4, 5, 1, 1, 6)
 EDITS_4001 = still_road(3, 12, 2, 2, 3, 2, 2, 2, 7)
-
-
-class Wide(Cleaner):
-    """A cleaner with any number of states, as the package makes some."""
-
-    def __init__(self, writer, look, firsts):
-        Cleaner.__init__(self, (({}, 0, ""),))
-        self._writer = tuple([(in_order(moves), other, last) for moves, other, last in writer])
-        self._look = tuple([(in_order(moves), other) for moves, other in look])
-        self._firsts = firsts
-        self._origins = origins_of(self._look)

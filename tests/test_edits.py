@@ -4,7 +4,7 @@ import itertools
 import random
 import unittest
 
-from cleandress.clean.cleaners import Cleaner, dropping, only_with
+from cleandress.clean.cleaners import Cleaner, MadeCleaner, dropping, only_with
 from cleandress.dress.dresses import Dress, dressed_text
 from cleandress.dress.holes import Hole
 from cleandress.errors import InvalidDress, InvalidOperation, InvalidRoad, InvalidText, TooMany
@@ -20,7 +20,6 @@ from tests.chosen import FEW, chosen_dress, chosen_roads, seeing_roads
 from tests.double import edit_steps, is_edit_standing
 from tests.examples import KEEP, PAD, PLAIN, STAMP, TRIM, UNSTAMP
 from tests.judges import EVEN, is_least, least_wrong, right_rows, told_useful_of
-from tests.large import Wide
 from tests.oracle import all_texts
 from tests.test_dressings import TWO
 from tests.test_roads import LONG, NEVER, no_roads
@@ -377,7 +376,7 @@ class Papers(unittest.TestCase):
         # Only this row is cut: a "b", a "#", a "$", another "b", a "0". The first cleaner lets no "b" through.
         wanted = "b#$b0"
         writer = [({(sign, None): (sign, at + 1)}, 0, "") for at, sign in enumerate(wanted[:-1])]
-        last = Wide(tuple(writer) + (({("0", None): ("", 0)}, 0, ""),), (({}, 0),), (0,))
+        last = MadeCleaner(tuple(writer) + (({("0", None): ("", 0)}, 0, ""),), (({}, 0),), (0,))
         road = (dropping(("b",)), PLAIN, last)
         paper = edits_paper(road, ("b",))
         self.assertEqual((paper[:2], edited_text(paper[2]), cost_of(road, paper)), (("fail", "#$0"), wanted, 5))

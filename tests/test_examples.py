@@ -6,11 +6,14 @@ import unittest
 
 from cleandress.base.signs import are_signs, texts_upto
 from cleandress.clean.cleaners import Cleaner, dropping, only_with, plain_cleaner, trimming
+from cleandress.clean.making import cleaner_for, read_back
 from cleandress.dress.dresses import Dress, dressed_text, plain_dress
 from cleandress.dress.holes import Hole, first_beyond
 from cleandress.judge.edits import edited_text, edits_pass, greatest_typed, is_edit, is_edits_paper, wanted_text
+from cleandress.judge.readable import is_readable, is_readable_paper, readable_paper
 from cleandress.judge.silent import is_silent, silent_paper
 from cleandress.judge.still import is_still, is_still_paper, settles, still_paper
+from cleandress.use.greatest import greatest_signs, least_bars, stirred_with
 from cleandress.walk.roads import along
 from cleandress.walk.standings import first_standings, lag_behind, steps_at
 from tests.examples import KEEP, PAD, PLAIN, STAMP, TEXT, TRIM, UNSTAMP
@@ -73,6 +76,21 @@ STAGE_8 = '''
 [True, '$a', '$a', False]
 '''
 
+STAGE_9 = '''
+>>> [is_readable(STAMP), is_readable(PAD), readable_paper(PAD)[0], read_back(STAMP, "a$ba:"), read_back(STAMP, "$")]
+[True, False, 'mixed', 'a$', None]
+>>> [cleaner_for(STAMP)("$:b$a:"), cleaner_for(STAMP)("a$"), is_readable_paper(PAD, ("mixed", "a", "a_", "a__"))]
+['$b$', None, True]
+'''
+
+STAGE_10 = '''
+>>> [greatest_signs((KEEP, PAD, TRIM), ("_", "a")), stirred_with((KEEP, PAD, TRIM), "_a"), greatest_signs((KEEP, PAD, KEEP), ("a",))]
+[(('a',),), None, ()]
+>>> half = Cleaner((({("$", None): ("$", 1)}, 0, ""), ({("a", None): ("", 1), (":", None): ("", 0)}, 0, "")))
+>>> [least_bars((KEEP, STAMP, half), (("who", "a"), ("who", "b"))), least_bars((KEEP, STAMP, UNSTAMP), (("who", "a"),))]
+[((('who', 'b'),),), ((),)]
+'''
+
 
 class Examples(unittest.TestCase):
     def follow(self, text, names):
@@ -103,8 +121,8 @@ class Examples(unittest.TestCase):
         for name, value in values.items():
             self.assertEqual(told[name], value)
 
-    def test_stages_3_to_8(self):
-        for text in (STAGE_3, STAGE_4, STAGE_5, STAGE_6, STAGE_7, STAGE_8):
+    def test_stages_3_to_10(self):
+        for text in (STAGE_3, STAGE_4, STAGE_5, STAGE_6, STAGE_7, STAGE_8, STAGE_9, STAGE_10):
             self.follow_stage(text)
 
     def test_readme(self):

@@ -4,7 +4,7 @@ import time
 import unittest
 
 from cleandress.base.signs import SIGNS
-from cleandress.clean.cleaners import plain_cleaner
+from cleandress.clean.cleaners import MadeCleaner, plain_cleaner
 from cleandress.dress.dresses import Dress
 from cleandress.dress.holes import Hole
 from cleandress.errors import InvalidRoad, InvalidText, TooMany
@@ -14,12 +14,12 @@ from cleandress.judge.search import search_in
 from cleandress.judge.silent import double_gain, is_silent, is_silent_paper, silent_paper
 from cleandress.judge.still import is_still, is_still_paper, settles, still_paper
 from cleandress.walk.courses import double_course, edit_course, how_many_starts, road_course, starts_of
-from cleandress.walk.graphs import graph_of, road_gain
+from cleandress.walk.graphs import RoadRules, graph_of, road_gain
 from cleandress.walk.roads import along
 from cleandress.walk.standings import first_standings, is_standing, standings, steps_at, useful_standings
 from tests.examples import KEEP, PAD, PLAIN
 from tests.large import (DOUBLE_4000, DOUBLE_4001, EDITS_4000, EDITS_4001, STILL_4000, STILL_4001, STIRRED_4000,
-                         STIRRED_4001, Wide)
+                         STIRRED_4001)
 
 # Such calls must answer within seconds; a slow machine may take a bit longer.
 SECONDS = 15
@@ -27,7 +27,7 @@ SECONDS = 15
 
 def table_of(course, gain):
     """The rows of all standings of a course, however many come."""
-    graph = graph_of(course, gain, None)
+    graph = graph_of(RoadRules(course, gain), None)
     return rows_of(graph, search_in(graph))
 
 
@@ -62,7 +62,7 @@ class Standings(unittest.TestCase):
 
     def test_one_more(self):
         for road in (STILL_4001, STIRRED_4001):
-            self.assertEqual(len(graph_of(road_course(road), road_gain, None).found), 4001)
+            self.assertEqual(len(graph_of(RoadRules(road_course(road), road_gain), None).found), 4001)
             for function in (standings, useful_standings, is_still, still_paper):
                 self.too_many(function, road)
 
@@ -98,7 +98,7 @@ class Standings(unittest.TestCase):
         typed = ("a",)
         paper = self.quick(edits_paper, EDITS_4000, typed)
         self.assertIs(self.quick(edits_pass, EDITS_4000, typed), paper[0] == "pass")
-        self.assertEqual(len(graph_of(edit_course(EDITS_4000, typed), edit_gain, 4000).found), 4000)
+        self.assertEqual(len(graph_of(RoadRules(edit_course(EDITS_4000, typed), edit_gain), 4000).found), 4000)
         self.assertIs(self.quick(is_edits_paper, EDITS_4000, typed, paper), True)
         for function in (edits_pass, edits_paper, greatest_typed):
             self.too_many(function, EDITS_4001, typed)
@@ -125,18 +125,18 @@ class Standings(unittest.TestCase):
 
 
 def edits_pass_by(road, typed):
-    return search_in(graph_of(edit_course(road, typed), edit_gain, None)).path is None
+    return search_in(graph_of(RoadRules(edit_course(road, typed), edit_gain), None)).path is None
 
 
 def counting(states):
     """A cleaner of many states that writes what it reads, and two signs more where a row of signs is full."""
-    return Wide(tuple([({}, (at + 1) % states, "") for at in range(states)]), (({}, 0),), (0,))
+    return MadeCleaner(tuple([({}, (at + 1) % states, "") for at in range(states)]), (({}, 0),), (0,))
 
 
 def far_look(views):
     """A cleaner with many views that come one behind the other; it refuses what is shorter."""
     look = tuple([({}, min(at + 1, views - 1)) for at in range(views)])
-    return Wide((({}, 0, ""),), look, (None,) * (views - 1) + (0,))
+    return MadeCleaner((({}, 0, ""),), look, (None,) * (views - 1) + (0,))
 
 
 class AnySize(unittest.TestCase):
@@ -167,11 +167,11 @@ class AnySize(unittest.TestCase):
         with self.assertRaises(TooMany):
             is_still((far, PLAIN, far))
         # Keys and standings are in the order of repr, also where views have two digits.
-        odd = Wide((({("a", 2): ("", 0), ("a", 10): ("", 0), ("a", None): ("", 0)}, 0, ""),), far.look, far.firsts)
+        odd = MadeCleaner((({("a", 2): ("", 0), ("a", 10): ("", 0), ("a", None): ("", 0)}, 0, ""),), far.look, far.firsts)
         self.assertEqual(list(odd.writer[0][0]), [("a", 10), ("a", 2), ("a", None)])
 
     def test_long_written_texts(self):
-        long = Wide((({("a", None): ("ab" * 40, 0)}, 0, "b" * 30),), (({}, 0),), (0,))
+        long = MadeCleaner((({("a", None): ("ab" * 40, 0)}, 0, "b" * 30),), (({}, 0),), (0,))
         self.assertEqual(long("a_"), "ab" * 40 + "_" + "b" * 30)
         road = (long, PLAIN, KEEP)
         self.assertIs(is_still(road), True)
@@ -181,8 +181,8 @@ class AnySize(unittest.TestCase):
 
     def test_papers_with_long_texts(self):
         # No walk with fewer signs stirs than one with more than can be passed alone.
-        last = Wide(tuple([({}, min(at + 1, 2100), "") for at in range(2100)]) + (({}, 2100, "a"),), (({}, 0),), (0,))
-        graph = graph_of(road_course((KEEP, PLAIN, last)), road_gain, None)
+        last = MadeCleaner(tuple([({}, min(at + 1, 2100), "") for at in range(2100)]) + (({}, 2100, "a"),), (({}, 0),), (0,))
+        graph = graph_of(RoadRules(road_course((KEEP, PLAIN, last)), road_gain), None)
         path = search_in(graph).path
         text = "".join([taken for _, part, taken, _ in path if part == 0])
         self.assertEqual(len(text), 2100)
@@ -190,7 +190,7 @@ class AnySize(unittest.TestCase):
         self.assertIs(is_still_paper((KEEP, PLAIN, last), paper), True)
 
     def test_looks_with_more_first_standings_than_can_be_made(self):
-        wide = Wide((({}, 0, ""),), tuple([({}, at) for at in range(2000)]), (0,) * 2000)
+        wide = MadeCleaner((({}, 0, ""),), tuple([({}, at) for at in range(2000)]), (0,) * 2000)
         road = (wide, PAD, wide, PAD, wide)
         begin = time.perf_counter()
         for function in (standings, useful_standings, is_still, still_paper):

@@ -294,9 +294,10 @@ def changes_of(rows):
 
 
 def true_for_one(standing):
-    """The same standing but for a False in the place of a 0, which is equal to it in Python."""
-    first = standing[0]
-    return ((first[0], False), *standing[1:]) if first[1] == 0 else ((first[0], True), *standing[1:])
+    """The same standing but for True and False in the place of 1 and 0, which are equal to them in Python."""
+    if isinstance(standing, tuple):
+        return tuple(true_for_one(part) for part in standing)
+    return {0: False, 1: True}[standing] if standing in (0, 1) else standing
 
 
 class Settling(unittest.TestCase):

@@ -1,6 +1,8 @@
 """Cleaners: what takes a dress off a text by what can be seen, or refuses the text.
 
-A cleaner can have any number of states here and write texts of any length: only what is passed by callers is limited.
+Cleaners that the package makes can have any number of states and write texts of any length: only what callers pass is
+limited. The limits are a triple: the most states of a look, the most states of a writer, and the most signs that are
+written at once. None in its place stands for no limits.
 """
 
 from cleandress.base.integers import is_number
@@ -10,6 +12,7 @@ from cleandress.errors import InvalidCleaner, InvalidText
 MAX_LOOK = 3
 MAX_WRITER = 4
 MAX_WRITTEN = 2
+LIMITS = (MAX_LOOK, MAX_WRITER, MAX_WRITTEN)
 
 
 class Cleaner:
@@ -17,13 +20,16 @@ class Cleaner:
 
     def __init__(self, writer, *, look=None, firsts=None):
         seen = (({}, 0),) if look is None else look
-        if not is_look(seen) or not is_writer(writer, len(seen)):
-            raise InvalidCleaner("a cleaner has a writer of one to four states and a look of one to three")
-        if firsts is not None and not are_firsts(firsts, len(seen), len(writer)):
-            raise InvalidCleaner("firsts has a state of the writer, or None, for each state of the look")
+        first = (0,) * len(seen) if firsts is None and isinstance(seen, tuple) else firsts
+        if not are_parts(writer, seen, first, LIMITS):
+            raise InvalidCleaner("a cleaner has a writer of one to four states, a look of one to three, and firsts")
+        self._keep(writer, seen, first)
+
+    def _keep(self, writer, look, firsts):
+        """Sets what the cleaner consists of, with dicts of its own."""
         self._writer = tuple([(in_order(moves), other, last) for moves, other, last in writer])
-        self._look = tuple([(in_order(moves), other) for moves, other in seen])
-        self._firsts = (0,) * len(seen) if firsts is None else firsts
+        self._look = tuple([(in_order(moves), other) for moves, other in look])
+        self._firsts = firsts
         self._origins = origins_of(self._look)
 
     @property
@@ -83,9 +89,25 @@ class Cleaner:
         return f"cleaner of {len(self._writer)} states, {len(self._look)} views"
 
 
-def is_look(value):
+class MadeCleaner(Cleaner):
+    """A cleaner that the package makes, without limits."""
+
+    def __init__(self, writer, look, firsts):
+        if not are_parts(writer, look, firsts, None):
+            raise InvalidCleaner("a cleaner has a writer, a look and firsts")
+        self._keep(writer, look, firsts)
+
+
+def are_parts(writer, look, firsts, limits):
+    """Whether these are the writer, the look and the firsts of a cleaner within some limits."""
+    if not is_look(look, limits) or not is_writer(writer, len(look), limits):
+        return False
+    return are_firsts(firsts, len(look), len(writer))
+
+
+def is_look(value, limits):
     """Whether the value is a tuple of states of a look."""
-    if not isinstance(value, tuple) or not 1 <= len(value) <= MAX_LOOK:
+    if not isinstance(value, tuple) or not value or (limits is not None and len(value) > limits[0]):
         return False
     return all([is_look_state(state, len(value)) for state in value])
 
@@ -100,21 +122,21 @@ def is_look_state(value, many):
     return all([is_sign(sign) and is_number(state, 0, many - 1) for sign, state in moves.items()])
 
 
-def is_writer(value, views):
+def is_writer(value, views, limits):
     """Whether the value is a tuple of states of a writer, for so many views."""
-    if not isinstance(value, tuple) or not 1 <= len(value) <= MAX_WRITER:
+    if not isinstance(value, tuple) or not value or (limits is not None and len(value) > limits[1]):
         return False
-    return all([is_writer_state(state, len(value), views) for state in value])
+    return all([is_writer_state(state, len(value), views, limits) for state in value])
 
 
-def is_writer_state(value, many, views):
+def is_writer_state(value, many, views, limits):
     """Whether the value is a state of a writer with so many states, for so many views."""
     if not isinstance(value, tuple) or len(value) != 3:
         return False
     moves, other, last = value
-    if not isinstance(moves, dict) or not is_number(other, 0, many - 1) or not is_written(last):
+    if not isinstance(moves, dict) or not is_number(other, 0, many - 1) or not is_written(last, limits):
         return False
-    return all([is_seen_sign(key, views) and is_move(move, many) for key, move in moves.items()])
+    return all([is_seen_sign(key, views) and is_move(move, many, limits) for key, move in moves.items()])
 
 
 def is_seen_sign(value, views):
@@ -125,17 +147,17 @@ def is_seen_sign(value, views):
     return is_sign(sign) and (view is None or is_number(view, 0, views - 1))
 
 
-def is_move(value, many):
+def is_move(value, many, limits):
     """Whether the value is a pair of a text that can be written and one of so many states."""
     if not isinstance(value, tuple) or len(value) != 2:
         return False
     text, state = value
-    return is_written(text) and is_number(state, 0, many - 1)
+    return is_written(text, limits) and is_number(state, 0, many - 1)
 
 
-def is_written(value):
+def is_written(value, limits):
     """Whether the value is a text that can be written at once."""
-    return is_text(value) and len(value) <= MAX_WRITTEN
+    return is_text(value) and (limits is None or len(value) <= limits[2])
 
 
 def are_firsts(value, views, many):

@@ -58,16 +58,7 @@ class Dress:
     def dressed(self, text, fillings):
         """The dressing of a text with these fillings."""
         check_passed(text)
-        if not isinstance(fillings, tuple):
-            raise InvalidOperation("fillings must be a tuple")
-        rows = rows_along(self, text)
-        names = names_in(rows)
-        for index, name in enumerate(names):
-            if index >= len(fillings) or fillings[index] not in self._holes[name]:
-                raise InvalidFilling(index)
-        if len(fillings) > len(names):
-            raise InvalidOperation("there are more fillings than holes")
-        return filled_rows(rows, fillings)
+        return dressing_by(self, text, fillings)
 
     def dressings(self, text, *, many=1):
         """All dressings whose fillings have at most so many signs each; the last hole's filling changes first."""
@@ -96,7 +87,7 @@ class Dress:
     def makes(self, text, value):
         """Whether the value is a text, of any length, that some dressing of a text has as its dressed text."""
         check_passed(text)
-        return is_text(value) and can_give(slots_of(rows_along(self, text), self._holes), value)
+        return is_text(value) and can_be_dressed(self, text, value)
 
     def with_hole(self, name, hole):
         """The dress with another hole under a name that it has."""
@@ -207,9 +198,28 @@ def rows_along(dress, text):
     return rows
 
 
+def dressing_by(dress, text, fillings):
+    """The dressing of a text of any length with some fillings, if they are right."""
+    if not isinstance(fillings, tuple):
+        raise InvalidOperation("fillings must be a tuple")
+    rows = rows_along(dress, text)
+    names = names_in(rows)
+    for index, name in enumerate(names):
+        if index >= len(fillings) or fillings[index] not in dress[name]:
+            raise InvalidFilling(index)
+    if len(fillings) > len(names):
+        raise InvalidOperation("there are more fillings than holes")
+    return filled_rows(rows, fillings)
+
+
 def dressing_with(dress, text, fillings):
     """The dressing of a text of any length with fillings that are right."""
     return filled_rows(rows_along(dress, text), fillings)
+
+
+def can_be_dressed(dress, text, value):
+    """Whether some dressing of a text has another text, both of any length, as its dressed text."""
+    return can_give(slots_of(rows_along(dress, text), dress._holes), value)
 
 
 def fillings_behind(orders, fillings):

@@ -7,10 +7,11 @@ from cleandress.dress.patterns import OWN, are_rows_of_pieces
 from cleandress.errors import InvalidDress, InvalidOperation, InvalidText, TooMany
 from cleandress.judge.edited import edit_with, has_edits, text_of_edit, wanted_by
 from cleandress.judge.papers import are_right_rows, rows_of
-from cleandress.judge.paths import edits_on, fillings_on, is_typed_step, text_on, typed_on
+from cleandress.judge.paths import edits_on, fillings_on, is_typed_step, text_on, typed_by
 from cleandress.judge.search import search_in
+from cleandress.judge.sets import greatest_sets
 from cleandress.walk.courses import edit_course
-from cleandress.walk.graphs import Graph, graph_of
+from cleandress.walk.graphs import RoadRules, graph_of
 from cleandress.walk.roads import check_short_road
 from cleandress.walk.standings import MAX_STANDINGS
 
@@ -82,7 +83,7 @@ def is_edits_paper(road, typed, value):
     if not isinstance(value, tuple):
         return False
     if len(value) == 2 and value[0] == "pass":
-        return are_right_rows(edit_course(road, typed), edit_gain, value[1])
+        return are_right_rows(RoadRules(edit_course(road, typed), edit_gain), value[1])
     return len(value) == 3 and value[0] == "fail" and fails(road, typed, value[1], value[2])
 
 
@@ -100,7 +101,7 @@ def edit_graph(road, typed):
     """The graph of the edit standings of a road."""
     check_short_road(road)
     check_typed(typed)
-    return graph_of(edit_course(road, typed), edit_gain, MAX_STANDINGS)
+    return graph_of(RoadRules(edit_course(road, typed), edit_gain), MAX_STANDINGS)
 
 
 def edit_gain(course, standing, move):
@@ -122,39 +123,5 @@ def greatest_typed(road, signs):
     if len(signs) > MAX_TYPED:
         raise TooMany(MAX_TYPED)
     # With fewer typed signs there are no other standings and no other steps, so this graph has those of all sets.
-    graph = graph_of(edit_course(road, signs), edit_gain, MAX_STANDINGS)
-    passing = []
-    failing = []
-    for typed in sets_of(signs):
-        if any([is_part_of(typed, found) for found in passing]):
-            continue
-        if any([is_part_of(found, typed) for found in failing]):
-            continue
-        path = search_in(graph_within(graph, typed)).path
-        if path is None:
-            passing.append(typed)
-        else:
-            failing.append(typed_on(path, 2))
-    return tuple(sorted(passing))
-
-
-def sets_of(signs):
-    """All sets of some signs, ascending tuples, greater ones first."""
-    sets = [()]
-    for sign in signs:
-        sets = sets + [(*found, sign) for found in sets]
-    return sorted(sets, key=lambda found: -len(found))
-
-
-def is_part_of(signs, others):
-    """Whether all signs of a set are in another one."""
-    return all([sign in others for sign in signs])
-
-
-def graph_within(graph, typed):
-    """The graph without the steps in which other signs are typed."""
-    steps = []
-    for row in graph.steps:
-        # Of what the last cleaner reads only typed signs count.
-        steps.append([step for step in row if step[4] != 2 or step[3] == 0 or step[5] in typed])
-    return Graph(graph.course, graph.found, graph.starts, steps)
+    graph = edit_graph(road, signs)
+    return tuple(sorted(greatest_sets(graph, lambda step: typed_by(step, 2), signs, lambda kept: True)))

@@ -1,12 +1,9 @@
 """Papers that are tables: a row for each standing, with one lag or None.
 
-One set of rules serves all kinds of courses and of gains (see graphs).
+What standings there are is told by rules (see graphs).
 """
 
-from cleandress.walk.courses import how_many_refuse, how_many_starts, is_end, starts_of
-from cleandress.walk.forms import has_form
 from cleandress.walk.lags import EVEN, is_lag, lag_after
-from cleandress.walk.moves import moves_at
 
 
 def rows_of(graph, search):
@@ -17,48 +14,42 @@ def rows_of(graph, search):
     return tuple(sorted(rows, key=lambda row: repr(row)))
 
 
-def are_right_rows(course, gain, value):
+def are_right_rows(rules, value):
     """Whether the value is a table of rows that shows that no walk ends wrong."""
-    if not are_rows(course, value):
+    if not are_rows(rules, value):
         return False
     table = {standing: lag for standing, lag in value}
-    if len(table) != len(value) or not has_right_starts(course, table):
+    if len(table) != len(value) or not has_right_starts(rules, table):
         return False
-    return all([is_right_row(course, gain, table, standing) for standing in table])
+    return all([is_right_row(rules, table, standing) for standing in table])
 
 
-def are_rows(course, value):
+def are_rows(rules, value):
     """Whether the value is a tuple of pairs of a standing and a lag or None, ascending by repr."""
     if not isinstance(value, tuple) or not all([isinstance(row, tuple) and len(row) == 2 for row in value]):
         return False
-    if not all([has_form(course, standing) and (lag is None or is_lag(lag)) for standing, lag in value]):
+    if not all([rules.knows(standing) and (lag is None or is_lag(lag)) for standing, lag in value]):
         return False
     names = [repr(row) for row in value]
     return all([name < following for name, following in zip(names, names[1:])])
 
 
-def has_right_starts(course, table):
+def has_right_starts(rules, table):
     """Whether all first standings have rows, with no lag or an even one."""
     # Large looks have more first standings than could be made; then the table has not all of them.
-    if how_many_starts(course) > len(table):
+    if rules.how_many_first() > len(table):
         return False
-    return all([standing in table and table[standing] in (None, EVEN) for standing in starts_of(course)])
+    return all([standing in table and table[standing] in (None, EVEN) for standing in rules.first_ones()])
 
 
-def is_right_row(course, gain, table, standing):
+def is_right_row(rules, table, standing):
     """Whether the row of a standing fits those of all standings to which steps lead from it."""
     lag = table[standing]
-    refusing = how_many_refuse(course, standing)
-    if refusing > 0 and lag is not None:
+    if not rules.lets_have(standing, lag):
         return False
-    if is_end(standing):
-        return lag == EVEN or refusing == 2
-    for move in moves_at(course, standing):
-        reached = move[3]
+    for reached, more, other, *_ in rules.steps_from(standing):
         if reached not in table:
             return False
-        if table[reached] is not None:
-            more, other, _ = gain(course, standing, move)
-            if lag_after(lag, more, other) != table[reached]:
-                return False
+        if table[reached] is not None and lag_after(lag, more, other) != table[reached]:
+            return False
     return True

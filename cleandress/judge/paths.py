@@ -43,9 +43,9 @@ def is_typed_step(step, part):
     return is_edited_item(item) and step[2] != "" and step[3][part][2][:1] == (item,)
 
 
-def typed_on(path, part):
-    """The ascending tuple of the signs that are typed."""
-    return tuple(sorted(set([step[2] for step in path if is_typed_step(step, part)])))
+def typed_by(step, part):
+    """The sign that is typed in a step of a path, or None."""
+    return step[2] if is_typed_step(step, part) else None
 
 
 def edits_on(path, part):

@@ -1,11 +1,11 @@
 """Search: the cheapest walk that ends wrong, if there is one.
 
-A walk ends wrong if its two texts differ at its end, or if it is hopeless: if a last cleaner refuses, but for the
-second one where there are two and both refuse. Two lags for each standing are enough. Steps that lead from there to
-an end are right for one lag at most, so a third lag, which costs more, leads to nothing that one of the two does not.
+A walk ends wrong if its two texts differ at its end, or if it is hopeless, which the lag None tells: if neither text
+begins the other one, or if a cleaner refuses whose result counts. Two lags for each standing are enough. Steps that
+lead from there to an end are right for one lag at most, so a third lag, which costs more, leads to nothing that one of
+the two does not.
 """
 
-from cleandress.walk.courses import how_many_refuse, is_end
 from cleandress.walk.lags import EVEN, lag_after
 
 ENOUGH = 2
@@ -27,7 +27,7 @@ def search_in(graph):
     lags = [[] for _ in graph.found]
     # What waits, and what is settled, are tuples (standing, lag, index of what was settled ahead of it, step).
     settled = []
-    level = starts_in(graph)
+    level = [(number, lag, None, None) for number, lag in graph.starts if graph.useful[number]]
     while level:
         later = []
         at = 0
@@ -36,7 +36,7 @@ def search_in(graph):
             if is_needed(lags[number], lag):
                 lags[number].append(lag)
                 settled.append(level[at])
-                if lag != EVEN and is_end(graph.found[number]):
+                if lag != EVEN and graph.ends[number]:
                     return Search(lags, path_to(graph, settled))
                 for item in items_behind(graph, lags, number, lag, len(settled) - 1):
                     # What costs nothing more comes ahead of all that does.
@@ -45,16 +45,6 @@ def search_in(graph):
             at = at + 1
         level = later
     return Search(lags, None)
-
-
-def starts_in(graph):
-    """What waits at the beginning, but where two refuse: there nothing can differ."""
-    waiting = []
-    for number in range(graph.starts):
-        refusing = how_many_refuse(graph.course, graph.found[number])
-        if graph.useful[number] and refusing < 2:
-            waiting.append((number, EVEN if refusing == 0 else None, None, None))
-    return waiting
 
 
 def is_needed(kept, lag):

@@ -7,7 +7,7 @@ from cleandress.judge.papers import are_right_rows, rows_of
 from cleandress.judge.paths import fillings_on, text_on
 from cleandress.judge.search import search_in
 from cleandress.walk.courses import double_course
-from cleandress.walk.graphs import graph_of
+from cleandress.walk.graphs import RoadRules, graph_of
 from cleandress.walk.roads import check_short_road
 from cleandress.walk.standings import MAX_STANDINGS
 
@@ -28,7 +28,7 @@ def silent_paper(road):
         return "silent", rows_of(graph, search)
     text = text_on(search.path)
     handed = result_of(road[0], text)
-    both = [dressing_with(road[1], handed, fillings_on(search.path, road[1], part)) for part in graph.course.lasts]
+    both = [dressing_with(road[1], handed, fillings_on(search.path, road[1], part)) for part in (2, 3)]
     return ("tells", text, *both)
 
 
@@ -38,7 +38,7 @@ def is_silent_paper(road, value):
     if not isinstance(value, tuple):
         return False
     if len(value) == 2 and value[0] == "silent":
-        return are_right_rows(double_course(road), double_gain, value[1])
+        return are_right_rows(RoadRules(double_course(road), double_gain), value[1])
     return len(value) == 4 and value[0] == "tells" and tells(road, value[1], value[2], value[3])
 
 
@@ -55,7 +55,7 @@ def tells(road, text, dressing, other):
 def double_graph(road):
     """The graph of the double standings of a road."""
     check_short_road(road)
-    return graph_of(double_course(road), double_gain, MAX_STANDINGS)
+    return graph_of(RoadRules(double_course(road), double_gain), MAX_STANDINGS)
 
 
 def double_gain(course, standing, move):

@@ -8,7 +8,7 @@ from cleandress.judge.papers import are_right_rows, rows_of
 from cleandress.judge.paths import fillings_on, text_on
 from cleandress.judge.search import search_in
 from cleandress.walk.courses import road_course
-from cleandress.walk.graphs import road_gain
+from cleandress.walk.graphs import RoadRules, road_gain
 from cleandress.walk.roads import check_road, is_handed, told_along
 from cleandress.walk.standings import road_graph
 
@@ -49,7 +49,7 @@ def is_still_paper(road, value):
     if not isinstance(value, tuple):
         return False
     if len(value) == 2 and value[0] == "still":
-        return are_right_rows(road_course(road), road_gain, value[1])
+        return are_right_rows(RoadRules(road_course(road), road_gain), value[1])
     return len(value) == 3 and value[0] == "stirred" and is_stirred(road, value[1], value[2])
 
 

@@ -5,32 +5,42 @@ has the last cleaner twice. That of a road with edits has its parts and typed si
 ("ahead", sign) and ("behind",). One set of rules serves them all.
 """
 
+from cleandress.base.signs import SIGNS
 from cleandress.dress.dresses import Dress
 from cleandress.dress.patterns import items_of
 
 
 class Course:
-    """The parts, the numbers of those that are last cleaners, and the typed signs, None if there are no edits."""
+    """The parts, the numbers of those that are last cleaners, what the first cleaner can read, and the typed signs.
 
-    def __init__(self, parts, lasts, typed):
+    Where there are no edits, None stands for the typed signs.
+    """
+
+    def __init__(self, parts, lasts, signs, typed):
         self.parts = parts
         self.lasts = lasts
+        self.signs = signs
         self.typed = typed
 
 
 def road_course(road):
     """The course of a road."""
-    return Course(road, (len(road) - 1,), None)
+    return narrow_course(road, tuple(SIGNS))
+
+
+def narrow_course(road, signs):
+    """The course of a road on which the first cleaner reads these signs alone."""
+    return Course(road, (len(road) - 1,), signs, None)
 
 
 def double_course(road):
     """The course of a road of three parts on which two dressings of one text are cleaned."""
-    return Course((*road, road[2]), (2, 3), None)
+    return Course((*road, road[2]), (2, 3), tuple(SIGNS), None)
 
 
 def edit_course(road, typed):
     """The course of a road of three parts with edits."""
-    return Course(road, (2,), typed)
+    return Course(road, (2,), tuple(SIGNS), typed)
 
 
 def is_dress(course, part):

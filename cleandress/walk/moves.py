@@ -4,11 +4,10 @@ A move is a tuple (part, taken, written, standing): the number of the part that 
 the text that it writes if it is a cleaner, and the standing that comes.
 """
 
-from cleandress.base.signs import SIGNS
 from cleandress.clean.cleaners import last_at, origins_at, written_at
 from cleandress.dress.dresses import closing_at, pattern_at
+from cleandress.dress.items import takes_of_item
 from cleandress.dress.patterns import OWN, items_of
-from cleandress.dress.readers import count_behind
 from cleandress.walk.courses import dress_ahead, due_part, is_dress, receivers_of
 
 
@@ -55,7 +54,7 @@ def dress_move(course, standing, part):
 def takes_at(course, standing, part):
     """What a cleaner can take: pairs of a sign, or "", and of what its place has behind the guess then."""
     if part == 0:
-        return [(sign, ()) for sign in SIGNS]
+        return [(sign, ()) for sign in course.signs]
     queue = standing[part][2]
     if not queue:
         return []
@@ -66,31 +65,12 @@ def takes_at(course, standing, part):
 def takes_of(course, dress, item):
     """What can be taken from an item: pairs of a sign, or "", and of the items that are left of it then."""
     sort = item[0]
-    if sort == "fixed":
-        text = item[1]
-        return [(text[0], (("fixed", text[1:]),) if len(text) > 1 else ())]
-    if sort == "own":
-        return [(item[1], ())]
-    if sort == "hole":
-        return takes_of_hole(dress, item)
+    if sort not in ("ahead", "behind"):
+        return takes_of_item(dress, item)
     typed = [(sign, (item,)) for sign in course.typed]
     if sort == "behind":
         return typed + [("", ())]
     return typed + [(item[1], (("behind",),)), ("", (("behind",),))]
-
-
-def takes_of_hole(dress, item):
-    """What can be taken from a hole: a sign of its run, or nothing, as it goes on to the next run."""
-    _, name, run, count = item
-    runs = dress[name].runs
-    signs, low, high = runs[run]
-    takes = []
-    if count != high:
-        grown = (("hole", name, run, count_behind(runs[run], count)),)
-        takes = [(sign, grown) for sign in signs]
-    if count >= low:
-        takes.append(("", (("hole", name, run + 1, 0),) if run + 1 < len(runs) else ()))
-    return takes
 
 
 def moves_by(course, standing, part, taken, rest):

@@ -4,7 +4,7 @@ from cleandress.base.signs import check_passed
 from cleandress.errors import InvalidOperation, InvalidStanding
 from cleandress.walk.courses import road_course, starts_of
 from cleandress.walk.forms import has_form
-from cleandress.walk.graphs import graph_of, road_gain
+from cleandress.walk.graphs import RoadRules, graph_of, road_gain
 from cleandress.walk.lags import is_lag, lag_after
 from cleandress.walk.moves import moves_at
 from cleandress.walk.roads import check_road
@@ -51,7 +51,7 @@ def useful_standings(road):
 def road_graph(road):
     """The graph of a road."""
     check_road(road)
-    return graph_of(road_course(road), road_gain, MAX_STANDINGS)
+    return graph_of(RoadRules(road_course(road), road_gain), MAX_STANDINGS)
 
 
 def in_order(rows):
