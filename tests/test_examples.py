@@ -9,10 +9,14 @@ from cleandress.clean.cleaners import Cleaner, dropping, only_with, plain_cleane
 from cleandress.clean.making import cleaner_for, read_back
 from cleandress.dress.dresses import Dress, dressed_text, plain_dress
 from cleandress.dress.holes import Hole, first_beyond
+from cleandress.house.histories import is_stirring_history, lived, nothing_stirs, roads_of
+from cleandress.house.house import House
+from cleandress.house.lines import Lines, fits, idle_lines, path_classes
 from cleandress.judge.edits import edited_text, edits_pass, greatest_typed, is_edit, is_edits_paper, wanted_text
 from cleandress.judge.readable import is_readable, is_readable_paper, readable_paper
 from cleandress.judge.silent import is_silent, silent_paper
 from cleandress.judge.still import is_still, is_still_paper, settles, still_paper
+from cleandress.text.formats import read_cleaner, write_cleaner, write_dress, write_history
 from cleandress.use.greatest import greatest_signs, least_bars, stirred_with
 from cleandress.walk.roads import along
 from cleandress.walk.standings import first_standings, lag_behind, steps_at
@@ -91,6 +95,41 @@ STAGE_10 = '''
 [((('who', 'b'),),), ((),)]
 '''
 
+STAGE_11 = '''
+>>> lines = Lines(("*", PAD, TRIM), ("a*", STAMP, UNSTAMP))
+>>> [lines.number_of("ab"), lines.number_of("b"), lines.dress_of("b") == PAD, fits("a?*", "ab"), str(lines)]
+[1, 0, True, True, 'lines for 2 patterns']
+>>> [path_classes((lines,)), path_classes((lines, Lines(("?", PAD, TRIM)))), idle_lines(Lines(("a", PAD, TRIM), ("*", PAD, TRIM)))]
+[{'#': (0,), 'a': (1,)}, {'#': (0, 0), 'a': (1, 0), '##': (0, None), 'a#': (1, None)}, (0,)]
+'''
+
+STAGE_12 = '''
+>>> house = House({"old": Lines(("*", PAD, TRIM)), "new": Lines()}, "old")
+>>> [house.put("b", "a_"), house.take("b", ("__",)), house.copies, house.use("new"), house.store("b"), house.stored]
+['a', 'a__', {'b': 'a__'}, None, True, {'b': 'a__'}]
+>>> [house.undo(many=2), house.book, house.copies, house.redo(), house.book, str(house)]
+[2, 'old', {'b': 'a__'}, 3, 'new', 'house of 1 texts, 1 copies']
+'''
+
+STAGE_13 = '''
+>>> books = {"old": Lines(("*", PAD, TRIM), ("a*", STAMP, UNSTAMP))}
+>>> [nothing_stirs(books, "old"), nothing_stirs({"one": Lines(("*", STAMP, UNSTAMP))}, "one")]
+[False, True]
+>>> is_stirring_history(books, "old", (("put", "a", "_"), ("move", "a", "b"), ("take", "b", ("",)), ("store", "b")))
+True
+>>> [lived(books, "old", (("put", "a", "$b"),)).stored, len(roads_of(books))]
+[{'a': '$'}, 4]
+'''
+
+STAGE_14 = r'''
+>>> write_dress(PAD).split("\n")
+['hole pad =_ 0 -', 'opening', 'state 0', 'closing fill pad']
+>>> write_cleaner(TRIM).split("\n")
+['look 1', 'from =_ 0', 'look 1', 'firsts 0 0', 'write 0 =', 'on =_ 0 0 =']
+>>> [write_history((("put", "b", "a_"), ("store", "b"))), read_cleaner(write_cleaner(TRIM)) == TRIM]
+['put =b =a_\nstore =b', True]
+'''
+
 
 class Examples(unittest.TestCase):
     def follow(self, text, names):
@@ -121,8 +160,9 @@ class Examples(unittest.TestCase):
         for name, value in values.items():
             self.assertEqual(told[name], value)
 
-    def test_stages_3_to_10(self):
-        for text in (STAGE_3, STAGE_4, STAGE_5, STAGE_6, STAGE_7, STAGE_8, STAGE_9, STAGE_10):
+    def test_stages_3_to_14(self):
+        stages = (STAGE_3, STAGE_4, STAGE_5, STAGE_6, STAGE_7, STAGE_8, STAGE_9, STAGE_10, STAGE_11, STAGE_12, STAGE_13, STAGE_14)
+        for text in stages:
             self.follow_stage(text)
 
     def test_readme(self):

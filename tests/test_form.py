@@ -6,11 +6,13 @@ import pathlib
 import re
 import unittest
 
+from cleandress import errors
+
 ROOT = pathlib.Path(__file__).resolve().parent.parent
 PACKAGE = ROOT / "cleandress"
 LIBRARY = ("heapq", "math", "itertools", "collections")
 BARRED = ("Global", "AsyncFunctionDef", "Await", "AsyncFor", "AsyncWith", "Div", "TryStar", "Set", "SetComp", "GeneratorExp",
-          "AnnAssign", "Try", "With", "Match", "NamedExpr", "Nonlocal", "Delete", "Assert")
+          "AnnAssign", "Match", "NamedExpr", "Nonlocal", "Delete", "Assert")
 CALLED = ("len", "range", "enumerate", "zip", "min", "max", "sum", "abs", "sorted", "reversed", "int", "str", "bool", "list",
           "tuple", "dict", "set", "isinstance", "ord", "repr", "any", "all", "divmod", "iter")
 ERRORS = ("ValueError", "TypeError", "KeyError", "IndexError", "LookupError", "ArithmeticError", "OverflowError")
@@ -19,7 +21,8 @@ METHODS = ("append", "count", "endswith", "extend", "find", "get", "index", "ins
 NOT_NAMES = ("register", "mro", "elements", "open", "input", "law", "eval", "exec", "exit", "gc", "globals", "help", "id", "locals",
              "os", "quit", "type", "vars", "dir", "compile", "license", "copyright", "credits", "builtins")
 WORDS = re.compile(r"\b(type|typing|enum|Enum|Generic|Protocol|ABC|namedtuple|NamedTuple|TypedDict)\b|dataclass|overload|contextmanager|Meta")
-OPERATORS = ("__init__", "__eq__", "__len__", "__str__", "__iter__", "__contains__", "__getitem__", "__call__")
+OPERATORS = ("__init__", "__eq__", "__len__", "__str__", "__iter__", "__contains__", "__getitem__", "__call__", "__add__",
+             "__enter__", "__exit__")
 
 
 def files():
@@ -184,6 +187,26 @@ class NotUsed(unittest.TestCase):
                 for word in node.decorator_list:
                     self.assertIn(word.id, ("property", "classmethod"), path)
                 self.assertIsNone(node.returns)
+
+    def test_only_own_errors_are_caught(self):
+        own = [name for name in dir(errors) if isinstance(getattr(errors, name), type)]
+        for path, node in nodes():
+            if isinstance(node, ast.ExceptHandler):
+                named = node.type.elts if isinstance(node.type, ast.Tuple) else [node.type]
+                self.assertTrue(all(name.id in own for name in named), path)
+                self.assertIsNone(node.name, path)
+            if isinstance(node, ast.Try):
+                self.assertEqual(node.finalbody, [], path)
+
+    def test_blocks(self):
+        for path, node in functions():
+            if node.name == "__exit__":
+                for row in node.body:
+                    self.assertIsInstance(row, ast.Assign, path)
+                    self.assertIsInstance(row.value, ast.Attribute, path)
+        for path, node in nodes():
+            if isinstance(node, ast.With):
+                self.assertEqual(ast.unparse(node.items[0]), "self.trial() as same", path)
 
     def test_words(self):
         for path in files():

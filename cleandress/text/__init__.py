@@ -1,0 +1,1 @@
+"""Dresses, cleaners and histories as texts."""
