@@ -166,6 +166,15 @@ class Written(unittest.TestCase):
         self.assertEqual(write_dress(turned).split("\n"),
                          ["hole a =#a 0 -", "hole b =a 0 1", "opening", "state 0", "on =# 0", "on =_ 0", "on =b 0", "closing"])
 
+    def test_names_that_are_words_of_lines(self):
+        names = ("own", "fixed", "fill", "hole", "opening", "on", "closing", "state")
+        dress = Dress((({"a": ((("hole", "own"), ("own",), ("hole", "fixed")), 0)}, 0, (("hole", "fill"), ("hole", "hole"))),),
+                      {name: Hole((("a",), 0, None)) for name in names}, opening=(("hole", "opening"), ("fixed", "a"), ("hole", "own")))
+        text = write_dress(dress)
+        self.assertIn("on =a 0 fill own own fill fixed", text.split("\n"))
+        self.assertIn("opening fill opening fixed =a fill own", text.split("\n"))
+        self.assertEqual(read_dress(text), dress)
+
     def test_cleaners(self):
         self.assertEqual(write_cleaner(KEEP).split("\n"), ["look 0", "firsts 0", "write 0 ="])
         self.assertEqual(write_cleaner(SEEN).split("\n"),
@@ -276,13 +285,13 @@ class ReadBack(unittest.TestCase):
     def test_wrong_lines_of_dresses(self):
         right = write_dress(TWO).split("\n")
         for line in ("hole", "hole x =a 0", "hole x =a 0 - =b", "hole x =a - 0", "hole x =h 0 -", "hole x a 0 -", "hole  x =a 0 -", "hole x =a 0 - ",
-                     " hole x =a 0 -", "hole x =a 00 -", "hole x =a 0 01", "hole x =a +0 -", "hole x =a -0 -", "Hole x =a 0 -", "hole x =a 0 None"):
+                     " hole x =a 0 -", "hole x =a 00 -", "hole x =a 0 01", "hole x =a +0 -", "hole x =a -0 -", "Hole x =a 0 -", "hole x =a 0 None", "hole ", "hole  =a 0 -"):
             self.wrong("dress", [line, *right[1:]], 0)
         # These have the form, but the whole is no dress.
         for line in ("hole x", "hole x =ba 0 -", "hole x =aa 0 -", "hole x = 0 -", "hole x =a 4 -", "hole x =a -1 -", "hole x =a 2 1", "hole x =a 0 0",
                      "hole X =a 0 -", "hole w =a 0 -", "hole x =a 0 " + "9" * 60, "hole =a =a 0 -", "hole - =a 0 -", "hole x =a 0 - =a 0 - =a 0 - =a 0 - =a 0 -"):
             self.wrong("dress", [line, *right[1:]], 12)
-        for line in ("opening own fixed", "opening fixed a", "opening fixed =h", "opening fill", "opening x", "opening  own", "opening "):
+        for line in ("opening own fixed", "opening fixed a", "opening fixed =h", "opening fill", "opening fill ", "opening x", "opening  own", "opening "):
             self.wrong("dress", right[:2] + [line] + right[3:], 2)
         for line in ("opening own", "opening fixed =", "opening fixed =abcd", "opening fill z", "opening fill fill", "opening fixed =a fixed =a fixed =a fixed =a"):
             self.wrong("dress", right[:2] + [line] + right[3:], 12)
@@ -290,13 +299,16 @@ class ReadBack(unittest.TestCase):
             self.wrong("dress", right[:3] + [line] + right[4:], 3)
         for line in ("state 2", "state -1", "state " + "1" * 300):
             self.wrong("dress", right[:3] + [line] + right[4:], 12)
-        for line in ("on =a", "on a 0", "on =aa 0", "on = 0", "on =a - own", "on =a 0 Own", "on =a 01", "on"):
+        for line in ("on =a", "on a 0", "on xa 0 own", "on aa 0 own", "on =aa 0", "on = 0", "on =a - own", "on =a 0 Own", "on =a 01", "on"):
             self.wrong("dress", right[:4] + [line] + right[5:], 4)
         for line in ("on =a 2 own", "on =a 0 own own", "on =a -3", "on =a 0 fill own", "on =a 0 own own own own"):
             self.wrong("dress", right[:4] + [line] + right[5:], 12)
         for line in ("closing own", "closing fill xx", "closing fixed ="):
             self.wrong("dress", right[:7] + [line] + right[8:], 12)
         self.wrong("dress", ["opening"] + ["state 0", "closing"] * 5, 11)
+        # A last state without a closing pattern is none, though no other one leads to it.
+        self.wrong("dress", ["opening", "state 0", "closing", "state 0"], 4)
+        self.wrong("dress", ["opening", "state 0", "closing", "state 0", "on =a 0 own"], 5)
         holes = ["hole " + name + " =a 0 -" for name in "abcdefghi"]
         self.wrong("dress", holes + ["opening", "state 0", "closing"], 12)
         self.assertEqual(len(read_dress("\n".join(holes[1:] + ["opening", "state 0", "closing"])).holes), 8)
@@ -348,7 +360,7 @@ class ReadBack(unittest.TestCase):
     def test_wrong_histories(self):
         self.assertEqual([read_history(""), read_history("use a")], [(), (("use", "a"),)])
         for line in ("use", "use a b", "use  a", "put =a", "put =a =b =c", "put a =b", "put =a b", "put =a =h", "move =a", "move =a b", "store", "store =a =b",
-                     "store a", "take", "take a", "take =a b", "Use a", "undo", "undo 1", " use a", "use a ", "take =a  =b"):
+                     "store a", "take", "use ", "take ", "take a", "take =a b", "Use a", "undo", "undo 1", " use a", "use a ", "take =a  =b"):
             self.wrong("history", [line], 0)
             self.wrong("history", ["use a", line, "use"], 1)
         for line in ("use A", "use abcdefghi", "use =a", "use -", "put = =a", "put =aaaaaaaaaaaaa =", "move =a =", "move = =a", "store =", "take =", "take = =a"):

@@ -241,6 +241,13 @@ class LeastBars(unittest.TestCase):
         road = (KEEP, Dress((({}, 0, ()),), {"x": Hole((("_",), 1, 1))}), KEEP, idle, KEEP)
         self.assertEqual(least_bars(road, (("x", "_"),)), ())
 
+    def test_names_like_signs(self):
+        # The bar of the hole "a" leaves the signs of the text, and fixed ones, as they are.
+        dress = Dress((({}, 0, (("fixed", "a"), ("hole", "a"))),), {"a": Hole((("a", "b"), 0, None))})
+        self.assertEqual(least_bars((KEEP, dress, KEEP), (("a", "a"), ("a", "b"))), ())
+        drop = Cleaner((({("a", 0): ("", 0)}, 0, ""),), look=(({}, 1), ({}, 1)))
+        self.assertEqual(least_bars((KEEP, dress, drop), (("a", "a"), ("a", "b"))), ((("a", "a"), ("a", "b")),))
+
     def test_one_name_in_two_dresses(self):
         # The bar of the name counts for both dresses.
         other = Dress((({}, 0, (("hole", "pad"), ("fixed", "#"))),), {"pad": Hole((("_", "a"), 0, None))})

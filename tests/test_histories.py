@@ -252,6 +252,13 @@ class NothingStirs(unittest.TestCase):
         books = {"a": Lines(("*", PAD, TRIM)), "b": Lines(("*", PLAIN, KEEP))}
         self.assertEqual([nothing_stirs({"a": books["a"]}, "a"), nothing_stirs({"b": books["b"]}, "b"), nothing_stirs(books, "b")], [True, True, False])
 
+    def test_texts_that_are_put_elsewhere(self):
+        # All that is put under other paths than "a" comes back there, and what is put under "a" comes back under "a".
+        books = {"a": Lines(("*", PAD, TRIM), ("a", PLAIN, KEEP))}
+        history = stirring_history(books, "a")
+        self.assertIs(is_stirring_history(books, "a", history), True)
+        self.assertEqual([deed[1] for deed in history if deed[0] == "put"], ["a"])
+
     def test_with_fewer_lines_a_house_may_be_worse(self):
         more = Lines(("a", PAD, TRIM), ("*", STAMP, UNSTAMP))
         self.assertEqual([nothing_stirs({"a": more}, "a"), nothing_stirs({"a": Lines(more[0])}, "a")], [True, False])

@@ -31,6 +31,9 @@ BEHIND = Dress((({"a": ((("hole", "x"), ("own",), ("fixed", "b")), 0), "b": ((("
 LATE = Dress((({"a": ((("fixed", "c"),), 1), "b": ((("fixed", "c"),), 2)}, 3, ()), ({}, 1, (("fixed", "_"),)),
               ({}, 2, (("fixed", "#"),)), ({}, 3, (("fixed", ":"),))))
 
+# The text "a" is dressed as the empty text: what was read is written at the end.
+QUIET = Dress((({"a": ((), 1)}, 2, (("fixed", "_"),)), ({sign: ((("own",), ("fixed", "#")), 1) for sign in SIGNS}, 1, ()), ({}, 2, (("fixed", "_"),))))
+
 
 def readable_ones(seed, many):
     return [dress for dress in chosen_dresses(seed, many) if is_readable(dress)]
@@ -53,17 +56,19 @@ class ReadBack(unittest.TestCase):
         self.assertIs(read_back(EDGES, "$:"), None)
         self.assertEqual(read_back(MARKED, "##b#01aaa"), "#ba")
         self.assertEqual(read_back(FOUR, "$"), "")
+        self.assertEqual([read_back(QUIET, text) for text in ("", "_", "b#", "b_", "b")], ["a", "", "ab", "b", None])
+        self.assertEqual([cleaner_for(QUIET)(text) for text in ("", "_", "b#", "b_", "b")], ["a", "", "ab", "b", None])
         self.assertEqual([read_back(LATE, text) for text in ("ca_", "ca#", "ca:", "ca", "_", "")], ["aa", "ba", "ca", None, None, ""])
 
     def test_each_text_from_its_dressings(self):
-        for dress in READABLE + [BEHIND, LATE] + readable_ones(21, 40):
+        for dress in READABLE + [BEHIND, LATE, QUIET] + readable_ones(21, 40):
             made = short_dressed(dress, FEW, 3, 2, 20)
             for dressed, texts in made.items():
                 self.assertEqual([read_back(dress, dressed)], texts)
 
     def test_none_of_others(self):
         marks = []
-        for dress in READABLE + [BEHIND, LATE] + readable_ones(22, 20):
+        for dress in READABLE + [BEHIND, LATE, QUIET] + readable_ones(22, 20):
             for text in all_texts(FEW, 4):
                 back = read_back(dress, text)
                 marks.append(back is None)
@@ -111,7 +116,7 @@ class MadeCleaners(unittest.TestCase):
         self.assertEqual(cleaner_for(PLAIN)("ab"), "ab")
 
     def test_it_undoes_the_dress(self):
-        for dress in READABLE + [BEHIND, LATE, SETS_200] + readable_ones(23, 30):
+        for dress in READABLE + [BEHIND, LATE, QUIET, SETS_200] + readable_ones(23, 30):
             cleaner = cleaner_for(dress)
             for dressed, texts in short_dressed(dress, FEW, 3, 2, 20).items():
                 self.assertEqual([cleaner(dressed)], texts)
@@ -121,7 +126,7 @@ class MadeCleaners(unittest.TestCase):
 
     def test_the_road_is_still(self):
         many = 0
-        for dress in READABLE + [BEHIND, LATE] + readable_ones(24, 60):
+        for dress in READABLE + [BEHIND, LATE, QUIET] + readable_ones(24, 60):
             road = (KEEP, dress, cleaner_for(dress))
             try:
                 paper = still_paper(road)
@@ -135,7 +140,7 @@ class MadeCleaners(unittest.TestCase):
         self.assertGreater(many, 30)
 
     def test_a_cleaner_like_the_others(self):
-        for dress in READABLE + [BEHIND, LATE, SETS_200]:
+        for dress in READABLE + [BEHIND, LATE, QUIET, SETS_200]:
             cleaner = cleaner_for(dress)
             self.assertIsInstance(cleaner, Cleaner)
             self.assertEqual(cleaner, cleaner_for(dress))
@@ -210,7 +215,7 @@ class MadeCleaners(unittest.TestCase):
 
 class BackSets(unittest.TestCase):
     def test_all_of_short_texts(self):
-        for dress in READABLE + [BEHIND, LATE] + readable_ones(25, 30):
+        for dress in READABLE + [BEHIND, LATE, QUIET] + readable_ones(25, 30):
             backs = backs_of(dress)
             told = {}
             for text in all_texts(FEW, 3):
@@ -236,7 +241,7 @@ class BackSets(unittest.TestCase):
     def test_just_as_many_as_the_document_counts(self):
         chance = random.Random(9)
         for limit in (2, 16, 17, 18, 21):
-            for dress in READABLE + [BEHIND, LATE] + readable_ones(chance.randrange(1000), 20):
+            for dress in READABLE + [BEHIND, LATE, QUIET] + readable_ones(chance.randrange(1000), 20):
                 module.MAX_SETS = limit
                 try:
                     if how_many_sets(dress) > limit:

@@ -124,7 +124,7 @@ def kinds_of_views(writer, look, firsts):
     many = 0
     while many <= max(kinds):
         many = max(kinds) + 1
-        ahead = [tuple([kinds[view] for view in moves.values()]) for moves in look]
+        ahead = [tuple([kinds[reached] for reached in row.values()]) for row in look]
         kinds = numbered(list(zip(kinds, ahead)))
     return kinds
 

@@ -163,10 +163,9 @@ class House:
     def __eq__(self, other):
         if not isinstance(other, House):
             return False
-        now, then = self._now, other._now
-        if (now.used, now.kept, now.lying) != (then.used, then.kept, then.lying):
+        if self._books != other._books or self._now.used != other._now.used:
             return False
-        return self._books == other._books
+        return (self._now.kept, self._now.lying) == (other._now.kept, other._now.lying)
 
     def __len__(self):
         return len(self._now.kept)

@@ -47,7 +47,8 @@ def is_right_row(rules, table, standing):
     lag = table[standing]
     if not rules.lets_have(standing, lag):
         return False
-    for reached, more, other, *_ in rules.steps_from(standing):
+    for step in rules.steps_from(standing):
+        reached, more, other = step[:3]
         if reached not in table:
             return False
         if table[reached] is not None and lag_after(lag, more, other) != table[reached]:

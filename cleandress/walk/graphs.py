@@ -37,10 +37,12 @@ class RoadRules:
 
     def steps_from(self, standing):
         """The list of the steps from a standing, in order, with the standing that comes in the place of its number."""
+        gain = self.gain
         steps = []
         for move in moves_at(self.course, standing):
             part, taken, _, reached = move
-            steps.append((reached, *self.gain(self.course, standing, move), part, taken))
+            more, other, cost = gain(self.course, standing, move)
+            steps.append((reached, more, other, cost, part, taken))
         return steps
 
     def ends_at(self, standing):
