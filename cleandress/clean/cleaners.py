@@ -59,15 +59,15 @@ class Cleaner:
 
     def views_that_come(self):
         """The ascending tuple of the states of the look that are the view at some place of some text."""
-        found = [0]
-        at = 0
-        while at < len(found):
-            moves, other = self._look[found[at]]
+        found = {0: True}
+        waiting = [0]
+        while waiting:
+            moves, other = self._look[waiting.pop()]
             for sign in SIGNS:
                 view = moves.get(sign, other)
                 if view not in found:
-                    found.append(view)
-            at = at + 1
+                    found[view] = True
+                    waiting.append(view)
         return tuple(sorted(found))
 
     def __call__(self, text):

@@ -11,6 +11,9 @@ from cleandress.errors import InvalidDress
 from cleandress.text.words import is_entry_word, is_number_word, is_sign_word, is_text_word, number_of_word
 from cleandress.text.words import pattern_of_words
 
+# How many texts follow that of the path; a text that is taken can have any number of fillings.
+TEXTS_BEHIND = {"store": 0, "put": 1, "move": 1}
+
 
 def dress_row(words):
     """The row of a line of the text of a dress, by its words; None if it has no form."""
@@ -131,6 +134,6 @@ def deed_row(words):
     texts = tuple([text[1:] for text in rest])
     if word == "take":
         return word, None, (word, told[1:], texts)
-    if len(rest) != {"store": 0, "put": 1, "move": 1}.get(word):
+    if len(rest) != TEXTS_BEHIND.get(word):
         return None
     return word, None, (word, told[1:], *texts)
