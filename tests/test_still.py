@@ -161,6 +161,11 @@ class Papers(unittest.TestCase):
         odd = ((0, 0), ("end", ""), (0, 0, ()))
         for lag in (None, ("", "")):
             self.assertIs(is_still_paper(road, ("still", tuple(sorted(rows + ((odd, lag),), key=repr)))), False)
+        # An end with "none" has no row at all, though it does not come.
+        for lag in (None, ("", ""), ("a", "")):
+            more = tuple(sorted(rows + (((*ends, ("none", 0, ())), lag),), key=repr))
+            self.assertIs(right_still_rows(road, more), False)
+            self.assertIs(is_still_paper(road, ("still", more)), False)
         # What never ends can have any lag.
         road = (TRIM, PAD, TRIM)
         dead = (*ends, (0, 1, ()))
