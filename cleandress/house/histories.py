@@ -70,13 +70,18 @@ def stirring_history(books, book):
         return None
     _, text, dressings = still_paper(road_with(books, found))
     first, second, third = found
-    path = [path for path, pairs in classes.items() if first in pairs][0]
-    other = [path for path, pairs in classes.items() if second in pairs and third in pairs][0]
+    path = path_with(classes, [first])
+    other = path_with(classes, [second, third])
     fillings = tuple([piece[1] for row in dressings[0] for piece in row if piece[0] == "filled"])
     deeds = [("use", first[0]), ("put", path, text)]
     if path != other:
         deeds.append(("move", path, other))
     return (*deeds, ("use", second[0]), ("take", other, fillings), ("use", third[0]), ("store", other))
+
+
+def path_with(classes, wanted):
+    """The first path for which some pairs (book, number) count."""
+    return [path for path, pairs in classes.items() if all([pair in pairs for pair in wanted])][0]
 
 
 def stirring_road(books, classes):

@@ -4,6 +4,7 @@ What standings there are is told by rules (see graphs).
 """
 
 from cleandress.walk.lags import EVEN, is_lag, lag_after
+from cleandress.walk.standings import in_order
 
 
 def rows_of(graph, search):
@@ -11,7 +12,7 @@ def rows_of(graph, search):
     rows = []
     for standing, lags in zip(graph.found, search.lags):
         rows.append((standing, lags[0] if lags else None))
-    return tuple(sorted(rows, key=lambda row: repr(row)))
+    return in_order(rows)
 
 
 def are_right_rows(rules, value):
