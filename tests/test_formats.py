@@ -335,6 +335,7 @@ class ReadBack(unittest.TestCase):
             swapped = list(right)
             swapped[one], swapped[other] = right[other], right[one]
             self.wrong("cleaner", swapped, other)
+        self.wrong("cleaner", ["look 0", "firsts -"], 2)
         for line in ("look", "look -", "look 0 0", "look =0", "look 00", "Look 0"):
             self.wrong("cleaner", [line, *right[1:]], 0)
         for line in ("look 3", "look -1", "look " + "7" * 60):

@@ -199,6 +199,11 @@ class MadeCleaners(unittest.TestCase):
                 MadeCleaner(writer, look, firsts)
         with self.assertRaises(InvalidCleaner):
             Cleaner(cleaner_for(SETS_200).writer)
+        # A cleaner that refuses all texts has a state of the writer all the same.
+        with self.assertRaises(InvalidCleaner):
+            MadeCleaner((), (({}, 0),), (None,))
+        with self.assertRaises(InvalidCleaner):
+            Cleaner((), firsts=(None,))
 
     def test_errors_in_their_order(self):
         for value in no_dresses():

@@ -12,7 +12,6 @@ from cleandress.errors import InvalidCleaner, InvalidText
 MAX_LOOK = 3
 MAX_WRITER = 4
 MAX_WRITTEN = 2
-LIMITS = (MAX_LOOK, MAX_WRITER, MAX_WRITTEN)
 
 
 class Cleaner:
@@ -21,7 +20,7 @@ class Cleaner:
     def __init__(self, writer, *, look=None, firsts=None):
         seen = (({}, 0),) if look is None else look
         first = (0,) * len(seen) if firsts is None and isinstance(seen, tuple) else firsts
-        if not are_parts(writer, seen, first, LIMITS):
+        if not are_parts(writer, seen, first, (MAX_LOOK, MAX_WRITER, MAX_WRITTEN)):
             raise InvalidCleaner("a cleaner has a writer of one to four states, a look of one to three, and firsts")
         self._keep(writer, seen, first)
 
