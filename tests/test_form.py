@@ -151,6 +151,26 @@ class Names(unittest.TestCase):
             once = names + [name for node in tree.body if isinstance(node, ast.FunctionDef) for name in bound_names(node)]
             self.assertEqual(len(once), len(set(once)), path)
 
+    def test_variables_of_inner_comprehensions(self):
+        # They are no names that the function, or the comprehension around them, assigns.
+        kinds = (ast.ListComp, ast.DictComp)
+        for path, node in functions():
+            loops = [inner for inner in ast.walk(node) if isinstance(inner, kinds)]
+            targets = {loop: [name for part in loop.generators for inner in ast.walk(part.target) for name in bound_names(inner)] for loop in loops}
+            hidden = [inner for loop in loops for part in loop.generators for inner in ast.walk(part.target)]
+            assigned = [name for inner in ast.walk(node) if inner not in hidden for name in bound_names(inner)]
+            for outer in loops:
+                for inner in ast.walk(outer):
+                    if inner in loops and inner is not outer:
+                        for name in targets[inner]:
+                            self.assertNotIn(name, assigned + targets[outer], (path, node.name))
+
+    def test_module_level_values_are_plain(self):
+        for path, tree in trees():
+            for node in tree.body:
+                if isinstance(node, ast.Assign):
+                    self.assertFalse([inner for inner in ast.walk(node.value) if isinstance(inner, (ast.Name, ast.Call))], path)
+
     def test_no_function_has_the_name_of_a_generator(self):
         made = [node.name for _, node in functions() if any(isinstance(inner, (ast.Yield, ast.YieldFrom)) for inner in ast.walk(node))]
         every = [node.name for _, node in functions()]
