@@ -7,6 +7,7 @@ import re
 import unittest
 
 from cleandress import errors
+from tests.loops import changed_while_walked
 
 ROOT = pathlib.Path(__file__).resolve().parent.parent
 PACKAGE = ROOT / "cleandress"
@@ -276,3 +277,65 @@ class NotUsed(unittest.TestCase):
         for path, node in nodes():
             if isinstance(node, ast.AugAssign):
                 self.assertTrue(isinstance(node.value, ast.Constant) and isinstance(node.value.value, int), path)
+
+
+# Rows of a function; a loop in each changes what it walks, by its name, a field, an item, a choice, or a name alike.
+CHANGED = (
+    ("level = [1]", "for _ in range(3):", "    later = []", "    for x in level:", "        later.append(x)", "    level = later"),
+    ("for x in rows:", "    rows.append(x)"),
+    ("for x in rows:", "    if x:", "        rows.pop()", "        return"),
+    ("for x in rows:", "    rows[0] = x"),
+    ("for x in rows:", "    del rows[0]"),
+    ("for x in rows:", "    rows += [x]"),
+    ("for x in rows:", "    heappush(rows, x)"),
+    ("for at, x in enumerate(rows):", "    rows[at] = x"),
+    ("for x, y in zip(others, reversed(rows)):", "    rows.insert(0, y)"),
+    ("for x, y in enumerate(table.items()):", "    table.pop(x)"),
+    ("for x in table.values():", "    table.setdefault(x, 1)"),
+    ("for x in self.rows:", "    other.rows.append(x)"),
+    ("for x in rows[0]:", "    rows[1].append(x)"),
+    ("for row in rows:", "    for x in row:", "        rows[0].append(x)"),
+    ("for row, _ in rows:", "    for x in row:", "        row.append(x)"),
+    ("for x in rows if self else others:", "    others.append(x)"),
+    ("for x in rows:", "    (self or rows).append(x)"),
+    ("same = rows", "for x in rows:", "    same.append(x)"),
+    ("for x in rows:", "    same = others if x else rows", "    same.append(x)"),
+    ("same, at = rows, 0", "for x in same:", "    rows.clear()"),
+    ("first = second = rows", "third = first", "for x in third:", "    second.append(x)"),
+    ("same = self.rows", "for x in same:", "    self.rows.append(x)"),
+    ("pair = others", "row = pair[0]", "for x in row:", "    others[0].append(x)"),
+    ("return [rows.pop() for x in rows]",),
+    ("return {x: rows.append(x) for y in others for x in rows}",),
+)
+# Nothing is changed here that a loop walks.
+NOT_CHANGED = (
+    ("level = [1]", "for _ in range(3):", "    later = []", "    for x in list(level):", "        later.append(x)", "    level = later"),
+    ("for x in list(rows):", "    rows.append(x)"),
+    ("for x in sorted(table):", "    table.pop(x)"),
+    ("for x in rows[1:]:", "    rows.append(x)"),
+    ("for x, y in list(table.items()):", "    table[x] = y"),
+    ("for x in rows:", "    others.append(x)", "rows.append(1)"),
+    ("for row in rows:", "    row.append(1)"),
+    ("for at in range(len(rows)):", "    rows[at] = at"),
+    ("same = list(rows)", "for x in rows:", "    same.append(x)"),
+    ("while rows:", "    others.append(rows.pop())"),
+    ("return [others.append(x) for x in rows]",),
+)
+
+
+class Loops(unittest.TestCase):
+    def found_in(self, rows):
+        return changed_while_walked(ast.parse("\n    ".join(("def made(self, rows, others, table, other):",) + rows)))
+
+    def test_nothing_is_changed_while_it_is_walked(self):
+        for path, tree in trees():
+            self.assertEqual(changed_while_walked(tree), [], path)
+
+    def test_what_is_found(self):
+        for rows in CHANGED:
+            self.assertEqual(len(self.found_in(rows)), 1, rows)
+        self.assertEqual(self.found_in(CHANGED[0]), [("made", 6)])
+
+    def test_what_is_not_found(self):
+        for rows in NOT_CHANGED:
+            self.assertEqual(self.found_in(rows), [], rows)

@@ -13,7 +13,8 @@ from cleandress.clean.making import cleaner_for
 from cleandress.dress.dresses import plain_dress
 from cleandress.errors import InvalidLines, InvalidNumber, InvalidOperation, InvalidText, TooMany
 from cleandress.house import lines as module
-from cleandress.house.lines import MAX_LINES, MAX_PATH, Lines, fits, idle_lines, is_path, is_path_pattern, path_classes
+from cleandress.house.fitting import Fitting, places_of
+from cleandress.house.lines import MAX_LINES, MAX_PATH, Lines, first_paths, fits, idle_lines, is_path, is_path_pattern, path_classes
 from tests.examples import KEEP, PAD, PLAIN, STAMP, TRIM, UNSTAMP
 from tests.oracle import all_texts
 from tests.values import every_value, no_numbers, short
@@ -306,6 +307,25 @@ class Classes(unittest.TestCase):
             self.assertEqual(len(set(told.values())), len(told))
             for path, numbers in told.items():
                 self.assertEqual(numbers, tuple(lines.number_of(path) for lines in many))
+
+    def test_first_paths_to_places(self):
+        chance = random.Random(7)
+        lengths = []
+        for _ in range(40):
+            fitting = Fitting([chosen_pattern(chance, "ag_*?", 6) for _ in range(chance.randint(0, 4))])
+            told = list(first_paths(fitting).items())
+            wanted = {}
+            for path in all_texts(SIGNS, 3)[1:]:
+                wanted.setdefault(places_of(fitting, path), path)
+            self.assertEqual([row for row in told if len(row[1]) <= 3], list(wanted.items()))
+            paths = [path for _, path in told]
+            self.assertEqual(paths, sorted(paths, key=lambda path: (len(path), path)))
+            for places, path in told:
+                self.assertEqual(places_of(fitting, path), places)
+            lengths.append(len(paths[-1]))
+        self.assertGreater(max(lengths), 4)
+        paths = list(first_paths(Fitting(["?" * 12 + "?" * at for at in range(3)])).values())
+        self.assertEqual(paths, ["#" * many for many in range(1, 13)])
 
     def test_returned_dicts_are_new(self):
         path_classes((BOTH,)).clear()

@@ -131,7 +131,8 @@ def first_paths(fitting):
     level = [(fitting.first, "")]
     for _ in range(MAX_PATH):
         later = []
-        for places, text in level:
+        # A copy, as a level is the list that was filled in the turn before.
+        for places, text in list(level):
             for sign in SIGNS:
                 reached = places_behind(fitting, places, sign)
                 if reached not in found:
